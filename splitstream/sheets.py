@@ -1,0 +1,1 @@
+"""Sheets: the document tells nothing of them, so nothing stands here."""
