@@ -31,6 +31,11 @@ METHODS = set(
 UNUSED_WORDS = re.compile(
     r"\b(type|typing|typing_extensions|enum|Enum|IntEnum|StrEnum|Flag|IntFlag|Generic|Protocol|ABC|ABCMeta|"
     r"namedtuple|NamedTuple|TypedDict|TYPE_CHECKING|abstractmethod)\b|dataclass|overload|contextmanager")
+KEYWORDS = {
+    "sorted": {"key", "reverse"}, "min": {"key", "default"}, "max": {"key", "default"}, "sum": {"start"},
+    "enumerate": {"start"}, "zip": {"strict"}}
+WALKED_AT_ONCE = {"zip", "enumerate", "reversed", "range"}
+WALKERS = {"list", "tuple", "dict", "sorted", "sum", "any", "all", "enumerate", "zip", "min", "max"}
 UNUSED_NAMES = {"register", "mro", "elements", "open", "input", "version_info", "with_traceback", "add_note"}
 
 
@@ -58,6 +63,10 @@ def names_at_top(path):
         elif isinstance(node, ast.Assign):
             names.append(node.targets[0].id)
     return names
+
+
+def called(node):
+    return node.func.id if isinstance(node, ast.Call) and isinstance(node.func, ast.Name) else None
 
 
 class Signs(unittest.TestCase):
@@ -104,6 +113,10 @@ class Imports(unittest.TestCase):
 
 
 class Forms(unittest.TestCase):
+    @classmethod
+    def setUpClass(cls):
+        cls.nodes = nodes_of(ast.AST)
+
     def test_statements_and_expressions(self):
         for name, node in nodes_of(ast.stmt):
             self.assertIsInstance(node, STATEMENTS, (name, node.lineno))
@@ -137,6 +150,46 @@ class Forms(unittest.TestCase):
             self.assertIsInstance(node.value, (int, str, type(None)), (name, node.lineno))
             self.assertNotIn("%", str(node.value), (name, node.lineno))
 
+    def test_no_set_and_no_power(self):
+        for name, node in nodes_of((ast.Set, ast.Pow)):
+            self.fail((name, node))
+        for name, node in nodes_of(ast.Call):
+            self.assertNotIn(called(node), ("set", "frozenset", "chr"), (name, node.lineno))
+
+    def test_assignments_unpack_nothing(self):
+        for name, node in nodes_of((ast.Assign, ast.AugAssign)):
+            target = node.targets[0] if isinstance(node, ast.Assign) else node.target
+            self.assertIsInstance(target, (ast.Name, ast.Attribute, ast.Subscript), (name, node.lineno))
+
+    def test_annotations_are_none(self):
+        for name, node in nodes_of(ast.arg):
+            self.assertIsNone(node.annotation, name)
+        for name, node in nodes_of(ast.FunctionDef):
+            self.assertIsNone(node.returns, (name, node.name))
+
+    def test_keywords_of_pythons_own(self):
+        for name, node in nodes_of(ast.Call):
+            if called(node) in OWN_NAMES:
+                allowed = KEYWORDS.get(called(node), set())
+                self.assertLessEqual({keyword.arg for keyword in node.keywords}, allowed, (name, node.lineno))
+
+    def test_what_is_walked_is_walked_at_once(self):
+        walked = {id(node.iter) for name, node in self.nodes if isinstance(node, (ast.For, ast.comprehension))}
+        for name, node in self.nodes:
+            if called(node) in WALKERS:
+                walked |= {id(value) for value in node.args}
+        for name, node in self.nodes:
+            if called(node) in WALKED_AT_ONCE:
+                self.assertIn(id(node), walked, (name, node.lineno))
+
+    def test_errors_are_made_on_the_spot_and_taken_by_name(self):
+        for name, node in nodes_of(ast.Raise):
+            self.assertIsInstance(node.exc, ast.Call, (name, node.lineno))
+        for name, node in nodes_of(ast.Try):
+            self.assertEqual(len(node.body), 1, (name, node.lineno))
+            for handler in node.handlers:
+                self.assertNotIn(ast.unparse(handler.type), ("Exception", "TypeError"), (name, node.lineno))
+
     def test_is_stands_beside_none_true_and_false_alone(self):
         for name, node in nodes_of(ast.Compare):
             for sign, value in zip(node.ops, node.comparators):
@@ -168,6 +221,25 @@ class Names(unittest.TestCase):
         for name, node in nodes_of(ast.Call):
             if isinstance(node.func, ast.Attribute):
                 self.assertIn(node.func.attr, METHODS | own | DUNDERS, (name, node.lineno))
+
+    def test_no_local_is_called_like_a_class_an_import_or_a_def_of_its_file(self):
+        for path in FILES:
+            tree = tree_of(path)
+            taken = set(names_at_top(path)) | {
+                drawn.name for node in tree.body if isinstance(node, ast.ImportFrom) for drawn in node.names}
+            for kind in (node for node in ast.walk(tree) if isinstance(node, ast.FunctionDef)):
+                inner = [node.arg for node in ast.walk(kind) if isinstance(node, ast.arg)]
+                inner += [
+                    node.id for node in ast.walk(kind)
+                    if isinstance(node, ast.Name) and isinstance(node.ctx, ast.Store)]
+                self.assertEqual(taken & set(inner), set(), (path.name, kind.name))
+
+    def test_each_name_stands_once(self):
+        for path in FILES:
+            self.assertEqual(len(names_at_top(path)), len(set(names_at_top(path))), path.name)
+        for name, kind in nodes_of(ast.ClassDef):
+            methods = [node.name for node in kind.body if isinstance(node, ast.FunctionDef)]
+            self.assertEqual(len(methods), len(set(methods)), (name, kind.name))
 
     def test_no_name_is_a_method_and_a_value(self):
         methods = {

@@ -1,13 +1,9 @@
 import unittest
-from fractions import Fraction
-from itertools import combinations
 
+from samples import MOST, ONE, OTHER_KINDS, every_two_of_eight
 from splitstream.errors import BadNet, NoPipe
 from splitstream.nets import Net, with_pipe, without_pipe
 
-ONE = (1, 1)
-MOST = 1000000000
-OTHER_KINDS = [True, False, None, "0", "", 1.0, 0.0, (0,), [0], {}, Fraction(1, 1)]
 NO_HARDNESSES = OTHER_KINDS + [
     0, 1, 5, (), (1,), (1, 1, 1), [1, 1], "11", {1: 1, 2: 1},
     (2, 4), (3, 3), (MOST, MOST), (0, 1), (0, 5), (1, 0), (-1, 1), (1, -1), (-1, -1),
@@ -16,10 +12,6 @@ NO_HARDNESSES = OTHER_KINDS + [
     ("1", 1), (1, "1"), (1.0, 1), (1, 1.0), ((1, 1), 1), (1, [1]),
 ]
 NO_PLACES_OF_THREE = OTHER_KINDS + [-1, -3, 3, 4, 1000]
-
-
-def every_two_of_eight():
-    return [(one, other, (one + 1, 1)) for one, other in combinations(range(8), 2)]
 
 
 class Making(unittest.TestCase):

@@ -1,15 +1,9 @@
 import unittest
 from itertools import permutations, product
 
+from samples import ONE, OTHER_KINDS, net_of
 from splitstream.errors import NoPlace
 from splitstream.nets import Net
-
-ONE = (1, 1)
-OTHER_KINDS = [True, False, None, "0", "", 1.0, 0.0, (0,), [0], {}]
-
-
-def net_of(places, *pairs):
-    return Net(places, [(one, other, ONE) for one, other in pairs])
 
 
 def turned(pairs, turns):
